@@ -7,7 +7,7 @@ What is called around is how many expressions an expression stands inside of.
 from lotprograms.faults import Fault
 from lotprograms.kinds import bounded_num
 from lotprograms.parts import Expression
-from lotprograms.reader import read_share, read_weight
+from lotprograms.reader import Reader, read_share, read_weight
 from lotprograms.tokens import NUMBER, is_name
 
 DEEPEST = 24
@@ -25,6 +25,14 @@ OPERATIONS = {
 
 def begins_expression(token):
     return token.form == NUMBER or is_name(token) or token.word in TRUTHS or token.word in BUILT_IN
+
+
+def read_lone_expression(tokens):
+    """The expression that a text is, with nothing behind it."""
+    reader = Reader(tokens)
+    expression = read_expression(reader, 0)
+    reader.need_end()
+    return expression
 
 
 def read_expression(reader, around):

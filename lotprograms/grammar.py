@@ -4,7 +4,7 @@ from lotprograms.expressions import read_expression
 from lotprograms.faults import Fault
 from lotprograms.parts import Function, Let, Observe, Parameter, Program
 from lotprograms.reader import Reader, read_kind
-from lotprograms.tokens import END, is_name
+from lotprograms.tokens import is_name
 
 GREATEST_BUDGET = 20
 MOST_FUNCTIONS = 8
@@ -106,6 +106,5 @@ def read_told(reader):
     while reader.passes(","):
         refuse_more_names(reader, len(told), MOST_TOLD)
         told.append(reader.need_name())
-    if reader.ahead().form != END:
-        raise Fault(3, reader.ahead().place)
+    reader.need_end()
     return told

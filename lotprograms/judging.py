@@ -11,7 +11,7 @@ GIVES_FLAG = ("not", "and", "or", "lt", "le", "eq")
 
 
 def check_kinds(program):
-    """The kinds of all lets in their order, if all kinds are right."""
+    """The kinds of all lets by name, if all kinds are right."""
     named = functions_by_name(program.functions)
     for function in program.functions:
         known = {}
@@ -29,7 +29,7 @@ def check_statement_kinds(statements, named):
             known[statement.name] = kind_of_let(statement, found)
         else:
             need_sort(found, FLAG_SORT, statement.expression.place)
-    return list(known.values())
+    return known
 
 
 def kind_of_let(statement, found):

@@ -1,6 +1,7 @@
-"""What mentions what, and which function calls which."""
+"""What mentions what, which function calls which, and where chance comes in."""
 
-from lotprograms.parts import within
+from lotprograms.kinds import high_of, low_of
+from lotprograms.parts import expressions_of, within
 
 
 def mentioned_in(expression, names):
@@ -32,3 +33,25 @@ def is_recursive(number, called):
                 met.append(other)
         at += 1
     return number in met
+
+
+def points_of(program):
+    """For each point of chance, in the order of the text, its place and how many ways it has."""
+    points = []
+    for expression in expressions_of(program):
+        for inner in within(expression):
+            ways = ways_of(inner)
+            if ways > 0:
+                points.append((inner.place, ways))
+    return points
+
+
+def ways_of(expression):
+    """How many ways a point of chance has; 0 for what is none."""
+    if expression.form == "flip":
+        return 2
+    if expression.form == "uniform":
+        return high_of(expression.bounds) - low_of(expression.bounds) + 1
+    if expression.form == "pick":
+        return len(expression.parts)
+    return 0

@@ -65,6 +65,12 @@ def lets_of(program):
     return [statement for statement in program.statements if isinstance(statement, Let)]
 
 
+def expressions_of(program):
+    """The bodies of all functions, and what stands in all statements, in the order of the text."""
+    bodies = [function.body for function in program.functions]
+    return bodies + [statement.expression for statement in program.statements]
+
+
 def within(expression):
     """The expression and all in it, in the order in which they begin in the text."""
     found = [expression]

@@ -1,10 +1,12 @@
 """The calls on an object that holds a program, or none."""
 
+from lotprograms.expressions import read_lone_expression
 from lotprograms.faults import Fault
 from lotprograms.grammar import read_program
-from lotprograms.judging import check_kinds
-from lotprograms.mentions import called_in, is_recursive, mentioned_in
-from lotprograms.names import check_names
+from lotprograms.judging import check_kinds, kind_of
+from lotprograms.mentions import called_in, is_recursive, mentioned_in, points_of
+from lotprograms.names import check_expression, check_names, functions_by_name
+from lotprograms.naming import function_names, let_names, names_by_number, own_names
 from lotprograms.oneform import one_form
 from lotprograms.parts import lets_of
 from lotprograms.tokens import LONGEST_TEXT, tokens_of
@@ -15,13 +17,14 @@ SIZES = 2
 LETS = 3
 FUNS = 4
 KIND = 5
+POINTS = 6
+TELLS = 7
+PLAIN = 8
 SAME = 9
-
-WITH_TEXT = (LOAD, KIND, SAME)
-WITH_NUMBER = (LETS, FUNS)
 
 NONE_HELD = -1
 NO_SUCH = -2
+NO_PROGRAM = -4
 
 
 class Call:
@@ -34,14 +37,15 @@ class Call:
 
 
 class Loaded:
-    """A program that was found right, and what was found out about it."""
+    """A program that was found right, and what was found out about it; the kinds of lets are by name."""
 
     def __init__(self, program, let_kinds, form_bytes):
         self.program = program
         self.let_kinds = let_kinds
         self.form_bytes = form_bytes
-        self.let_names = [let.name for let in lets_of(program)]
-        self.function_names = [function.name for function in program.functions]
+        self.plain_bytes = one_form(program, names_by_number(program))
+        self.let_names = let_names(program)
+        self.function_names = function_names(program)
         self.called = [called_in(function.body, self.function_names) for function in program.functions]
 
 
@@ -66,11 +70,11 @@ def calls_in(numbers):
     at = 0
     while at < len(numbers):
         number = numbers[at]
-        if number in WITH_TEXT:
+        if has_text(number):
             first = at + 2
             at = first + numbers[at + 1]
             calls.append(Call(number, 0, numbers[first:at]))
-        elif number in WITH_NUMBER:
+        elif has_number(number):
             calls.append(Call(number, numbers[at + 1], []))
             at += 2
         else:
@@ -79,28 +83,47 @@ def calls_in(numbers):
     return calls
 
 
+def has_text(number):
+    return number in (LOAD, KIND, SAME)
+
+
+def has_number(number):
+    return number in (LETS, FUNS)
+
+
 def answer_to(holder, call):
     if call.number == LOAD:
         return load(holder, call.text)
     if holder.loaded is None:
         return [NONE_HELD]
+    return answer_of_held(holder.loaded, call)
+
+
+def answer_of_held(loaded, call):
     if call.number == SHOWN:
-        return shown(holder.loaded)
+        return shown(loaded)
     if call.number == SIZES:
-        return sizes(holder.loaded)
+        return sizes(loaded)
     if call.number == LETS:
-        return lets(holder.loaded, call.asked)
+        return lets(loaded, call.asked)
     if call.number == FUNS:
-        return funs(holder.loaded, call.asked)
-    # The other calls are not written yet: no answer of theirs is empty, so this can't be taken for one.
-    return []
+        return funs(loaded, call.asked)
+    if call.number == KIND:
+        return kind(loaded, call.text)
+    if call.number == POINTS:
+        return points(loaded)
+    if call.number == TELLS:
+        return tells(loaded)
+    if call.number == PLAIN:
+        return plain(loaded)
+    return same(loaded, call.text)
 
 
 def load(holder, text):
     try:
         loaded = loaded_from(text)
     except Fault as fault:
-        return [0, fault.code, fault.place]
+        return fault_numbers(fault)
     holder.loaded = loaded
     return [1]
 
@@ -109,7 +132,7 @@ def loaded_from(text):
     program = read_program(tokens_of(text))
     check_names(program)
     let_kinds = check_kinds(program)
-    form_bytes = one_form(program)
+    form_bytes = one_form(program, own_names(program))
     if len(form_bytes) > LONGEST_TEXT:
         raise Fault(10, 0)
     return Loaded(program, let_kinds, form_bytes)
@@ -130,10 +153,11 @@ def sizes(loaded):
 def lets(loaded, number):
     if number < 0 or number >= len(loaded.let_names):
         return [NO_SUCH]
+    name = loaded.let_names[number]
     expression = lets_of(loaded.program)[number].expression
     answer = [1]
-    answer.extend(name_numbers(loaded.let_names[number]))
-    answer.extend(list(loaded.let_kinds[number]))
+    answer.extend(name_numbers(name))
+    answer.extend(list(loaded.let_kinds[name]))
     answer.extend(counted(mentioned_in(expression, loaded.let_names)))
     answer.extend(counted(called_in(expression, loaded.function_names)))
     return answer
@@ -153,6 +177,49 @@ def funs(loaded, number):
     answer.extend(counted(loaded.called[number]))
     answer.append(1 if is_recursive(number, loaded.called) else 0)
     return answer
+
+
+def kind(loaded, text):
+    try:
+        found = kind_of_text(loaded, text)
+    except Fault as fault:
+        return fault_numbers(fault)
+    return [1] + list(found)
+
+
+def kind_of_text(loaded, text):
+    expression = read_lone_expression(tokens_of(text))
+    named = functions_by_name(loaded.program.functions)
+    check_expression(expression, loaded.let_kinds, named)
+    return kind_of(expression, loaded.let_kinds, named)
+
+
+def points(loaded):
+    found = points_of(loaded.program)
+    answer = [len(found)]
+    for point in found:
+        answer.extend(list(point))
+    return answer
+
+
+def tells(loaded):
+    return counted([loaded.let_names.index(token.word) for token in loaded.program.told])
+
+
+def plain(loaded):
+    return counted(loaded.plain_bytes)
+
+
+def same(loaded, text):
+    try:
+        other = loaded_from(text)
+    except Fault:
+        return [NO_PROGRAM]
+    return [1 if other.plain_bytes == loaded.plain_bytes else 0]
+
+
+def fault_numbers(fault):
+    return [0, fault.code, fault.place]
 
 
 def counted(numbers):

@@ -2,7 +2,7 @@
 
 from lotprograms.faults import Fault
 from lotprograms.kinds import FLAG, bounded_num
-from lotprograms.tokens import NUMBER, is_name
+from lotprograms.tokens import END, NUMBER, is_name
 
 
 class Reader:
@@ -44,6 +44,10 @@ class Reader:
         if self.ahead().form != NUMBER:
             raise Fault(3, self.ahead().place)
         return self.take()
+
+    def need_end(self):
+        if self.ahead().form != END:
+            raise Fault(3, self.ahead().place)
 
 
 def read_kind(reader):

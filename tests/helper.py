@@ -59,10 +59,26 @@ def asked_of(text, *calls):
     return found[1:]
 
 
-def shown_text(text):
-    answer = asked_of(text, [SHOWN])[0]
+def told_text(text, call):
+    answer = asked_of(text, [call])[0]
     assert answer[0] == len(answer) - 1
     return bytes(answer[1:]).decode("ascii")
+
+
+def shown_text(text):
+    return told_text(text, SHOWN)
+
+
+def plain_text(text):
+    return told_text(text, PLAIN)
+
+
+def kind_answer(held, text):
+    return asked_of(held, with_text(KIND, text))[0]
+
+
+def same_answer(held, text):
+    return asked_of(held, with_text(SAME, text))[0]
 
 
 def named(word):
@@ -109,11 +125,20 @@ def without_blanks(text):
 class ProgramCase(unittest.TestCase):
     """In a text that is handed to these, a ^ marks the place and is taken out."""
 
-    def assert_fault(self, code, marked):
+    def parted(self, marked):
+        """The text without the mark, and the place."""
         data = as_bytes(marked)
         self.assertEqual(data.count(94), 1, "one place must be marked")
         place = data.index(94)
-        self.assertEqual(load_answer(data[:place] + data[place + 1:]), [0, code, place], marked)
+        return data[:place] + data[place + 1:], place
+
+    def assert_fault(self, code, marked):
+        text, place = self.parted(marked)
+        self.assertEqual(load_answer(text), [0, code, place], marked)
+
+    def assert_kind_fault(self, held, code, marked):
+        text, place = self.parted(marked)
+        self.assertEqual(kind_answer(held, text), [0, code, place], marked)
 
     def assert_taken(self, text):
         self.assertEqual(load_answer(text), [1], text)

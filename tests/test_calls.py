@@ -11,6 +11,11 @@ from lotprograms.programs import answers
 FAR = 10 ** 18
 SMALL = "chance S let y = 1 ; tell y"
 
+ALL_OF_RAIN = [
+    [SHOWN], [SIZES], [LETS, 3], [FUNS, 0], with_text(KIND, "sub(grade, drops)"), with_text(KIND, "y"), [POINTS], [TELLS],
+    [PLAIN], with_text(SAME, RAIN), with_text(SAME, SMALL), with_text(SAME, "chance"),
+]
+
 CYCLES = """chance C
 def alone() flag = true ;
 def self(a num 0 9) flag = if(lt(a, 1), true, self(sub(max(a, 1), 1))) ;
@@ -25,6 +30,16 @@ tell x
 """
 
 
+class Untouched(list):
+    """A list that can't be changed, not for a while either."""
+
+    def refuse(self, *given):
+        raise AssertionError("the list that is handed in is changed")
+
+    append = extend = insert = remove = pop = clear = sort = reverse = refuse
+    __setitem__ = __delitem__ = __iadd__ = __imul__ = refuse
+
+
 class Handing(ProgramCase):
     def test_how_many_numbers_each_answer_has(self):
         self.assertEqual(answers([SIZES] + loading(SMALL) + [SIZES, SHOWN, LETS, 9]),
@@ -34,20 +49,28 @@ class Handing(ProgramCase):
         self.assertEqual(answers(loading("chance P tell x")), [3, 0, 3, 9])
 
     def test_whole_numbers_alone_are_given_back(self):
-        given = answers(loading(CYCLES) + [SHOWN, SIZES, LETS, 0, LETS, 1] + [n for k in range(7) for n in (FUNS, k)])
+        texts = ["uniform(0, 9)", "true", "$", CYCLES, SMALL, ""]
+        given = answers(loading(CYCLES) + [SHOWN, SIZES, LETS, 0, LETS, 1] + [n for k in range(7) for n in (FUNS, k)]
+                        + loading(RAIN) + [POINTS, TELLS, PLAIN]
+                        + [n for call in (KIND, SAME) for text in texts for n in with_text(call, text)])
         self.assertEqual({type(number) for number in given}, {int})
         self.assertIs(type(given), list)
 
     def test_the_list_handed_in_is_unchanged(self):
-        calls = loading(RAIN) + [SHOWN, SIZES, LETS, 1, FUNS, 0, LETS, -1] + loading("$") + with_text(KIND, "x")
+        calls = loading(RAIN) + [SHOWN, SIZES, LETS, 1, FUNS, 0, LETS, -1] + loading("$") + [POINTS, TELLS, PLAIN]
+        for text in ("grade", "x", "$", "", RAIN, SMALL, "chance P let x = y ; tell x", " " * 5000):
+            calls += with_text(KIND, text) + with_text(SAME, text)
+        self.assertEqual(len(taken_apart(answers(Untouched(calls)))), 26)
         before = list(calls)
         answers(calls)
         self.assertEqual(calls, before)
 
     def test_nothing_is_kept_from_one_time_to_the_next(self):
-        first = answers(loading(RAIN) + [SHOWN])
-        self.assertEqual(asked([SHOWN], [SIZES]), [[-1], [-1]])
-        self.assertEqual(answers(loading(RAIN) + [SHOWN]), first)
+        calls = loading(RAIN) + [SHOWN, POINTS, TELLS, PLAIN] + with_text(KIND, "grade") + with_text(SAME, RAIN)
+        first = answers(calls)
+        none_held = [[SHOWN], [SIZES], [POINTS], [TELLS], [PLAIN], with_text(KIND, "grade"), with_text(SAME, RAIN)]
+        self.assertEqual(asked(*none_held), [[-1]] * 7)
+        self.assertEqual(answers(calls), first)
 
     def test_what_is_given_back_is_no_one_elses(self):
         given = answers(loading(RAIN) + [SHOWN])
@@ -58,9 +81,9 @@ class Handing(ProgramCase):
         texts = with_text(KIND, as_bytes("1 2 3")) + with_text(SAME, SMALL) + with_text(KIND, "") + with_text(SAME, "")
         found = taken_apart(answers(texts + [POINTS, TELLS, PLAIN] + loading(SMALL) + texts
                                     + [POINTS, TELLS, PLAIN, LETS, FAR, FUNS, -FAR, SIZES]))
-        self.assertEqual(len(found), 18)
-        self.assertEqual(found[:8], [[-1]] * 7 + [[1]])
-        self.assertEqual(found[15:], [[-2], [-2], [1, 1, 0, 1, 0]])
+        plain = as_bytes("chance P\nlet x0 = 1 ;\ntell x0\n")
+        self.assertEqual(found, [[-1]] * 7 + [[1], [0, 3, 2], [1], [0, 3, 0], [-4], [0], [1, 0], [len(plain)] + plain,
+                                              [-2], [-2], [1, 1, 0, 1, 0]])
 
     def test_numbers_in_a_text_are_no_calls(self):
         found = asked(with_text(LOAD, [0, 1, 2, 3, 4, 5, 6, 7, 8, 9]), [SIZES])
@@ -78,7 +101,8 @@ class Handing(ProgramCase):
 class Refusals(ProgramCase):
     def test_before_any_program_is_held(self):
         calls = [[SHOWN], [SIZES], [LETS, 0], [LETS, -1], [FUNS, 0], [FUNS, FAR], with_text(KIND, "1"), [POINTS],
-                 [TELLS], [PLAIN], with_text(SAME, SMALL)]
+                 [TELLS], [PLAIN], with_text(SAME, SMALL), with_text(KIND, "add(1"), with_text(KIND, "$" * 8192),
+                 with_text(SAME, "no program"), with_text(SAME, "$" * 8192)]
         for call in calls:
             self.assertEqual(asked(call), [[-1]])
         self.assertEqual(asked(*calls), [[-1]] * len(calls))
@@ -88,10 +112,9 @@ class Refusals(ProgramCase):
 
     def test_a_faulty_load_leaves_the_program_that_is_held(self):
         faulty = ("$", "chance P tell x", "chance P let x = y ; tell x", "chance P let x = not(1) ; tell x", " " * 5000)
-        calls = [[SHOWN], [SIZES], [LETS, 3], [FUNS, 0]]
-        before = asked_of(RAIN, *calls)
+        before = asked_of(RAIN, *ALL_OF_RAIN)
         for text in faulty:
-            found = asked_of(RAIN, loading(text), *calls)
+            found = asked_of(RAIN, loading(text), *ALL_OF_RAIN)
             self.assertEqual(found[0][0], 0)
             self.assertEqual(found[1:], before)
 
@@ -106,9 +129,10 @@ class Refusals(ProgramCase):
             self.assertEqual(asked_of(RAIN, [FUNS, number], [SIZES]), [[-2], [5, 4, 1, 2, 2]])
 
     def test_a_refused_call_leaves_everything(self):
-        calls = [[SHOWN], [SIZES], [LETS, 3], [FUNS, 0]]
-        refused = [[LETS, -1], [LETS, 4], [FUNS, 1], [FUNS, -1]]
-        self.assertEqual(asked_of(RAIN, *refused, *calls)[4:], asked_of(RAIN, *calls))
+        refused = [[LETS, -1], [LETS, 4], [FUNS, 1], [FUNS, -1], with_text(SAME, "chance"), with_text(SAME, "")]
+        found = asked_of(RAIN, *refused, *ALL_OF_RAIN)
+        self.assertEqual(found[:6], [[-2]] * 4 + [[-4]] * 2)
+        self.assertEqual(found[6:], asked_of(RAIN, *ALL_OF_RAIN))
 
 
 class Lets(ProgramCase):

@@ -12,6 +12,7 @@ NODES = """Module Expr Constant ImportFrom alias FunctionDef ClassDef arguments 
     Break Continue Pass Raise Try ExceptHandler Name Load Store Attribute Subscript Slice Call List Tuple Dict BinOp
     UnaryOp BoolOp Compare IfExp ListComp comprehension And Or Not USub Add Sub Mult FloorDiv Mod Pow BitAnd BitOr BitXor
     LShift RShift Invert Eq NotEq Lt LtE Gt GtE In NotIn Is IsNot Lambda JoinedStr FormattedValue""".split()
+PLAIN_VALUES = "Constant UnaryOp USub List Tuple Dict Load".split()
 KEYWORDS = ("key", "reverse", "default", "start", "strict")
 OWN_OF_PYTHON = """len range enumerate zip min max sum abs sorted reversed int str bool list tuple dict set frozenset
     isinstance ord repr any all divmod Exception ValueError KeyError IndexError LookupError ZeroDivisionError""".split()
@@ -102,7 +103,8 @@ class Tops(unittest.TestCase):
             for node in tree.body:
                 self.assertIsInstance(node, (ast.Expr, ast.ImportFrom, ast.FunctionDef, ast.ClassDef, ast.Assign), name)
                 if isinstance(node, ast.Assign):
-                    self.assertFalse([part for part in ast.walk(node.value) if isinstance(part, (ast.Call, ast.BinOp))])
+                    found = {type(part).__name__ for part in ast.walk(node.value)}
+                    self.assertEqual(found - set(PLAIN_VALUES), set(), (name, node.lineno))
                 if isinstance(node, ast.Expr):
                     self.assertIsInstance(node.value.value, str)
             names = bound_at_top(tree) + list(imported(tree))

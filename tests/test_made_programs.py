@@ -7,7 +7,10 @@ import random
 import re
 import unittest
 
-from helper import FUNS, LETS, SHOWN, SIZES, ProgramCase, as_bytes, asked, loading, named, without_blanks
+from helper import (
+    FUNS, KIND, LETS, PLAIN, POINTS, SAME, SHOWN, SIZES, TELLS,
+    ProgramCase, as_bytes, asked, loading, named, with_text, without_blanks,
+)
 
 HOW_MANY = 150
 FLAG = ()
@@ -39,6 +42,7 @@ class Maker:
         self.lot = random.Random(seed)
         self.functions = []
         self.lets = []
+        self.found = []
         self.bodies = []
 
     def kind(self):
@@ -173,6 +177,7 @@ class Maker:
             name = self.name(known)
             body, kind = self.any_of(self.lot.random() < 0.6, known, 5)
             row = ["let", name]
+            self.found.append(kind)
             if self.lot.random() < 0.4:
                 if kind != FLAG:
                     kind = (max(-1000, kind[0] - self.lot.randint(0, 3)), kind[1])
@@ -241,6 +246,49 @@ def reached(calls):
         if wider == pairs:
             return [int((k, k) in pairs) for k in range(len(calls))]
         pairs = wider
+
+
+def points_in(tokens):
+    """Each word of chance among these tokens, and how many ways it has."""
+    found = []
+    for at, token in enumerate(tokens):
+        if token == "flip":
+            found.append((token, 2))
+        if token == "uniform":
+            found.append((token, int(tokens[at + 4]) - int(tokens[at + 2]) + 1))
+        if token == "pick":
+            found.append((token, colons_at_once(tokens[at + 1:])))
+    return found
+
+
+def colons_at_once(tokens):
+    """How many : stand in the bracket with which these tokens begin, and in no bracket within it."""
+    deep = 0
+    count = 0
+    for token in tokens:
+        deep += {"(": 1, ")": -1}.get(token, 0)
+        count += token == ":" and deep == 1
+        if deep == 0:
+            return count
+
+
+def written_otherwise(maker, rows, title, let_word, function_word, parameter_word):
+    """The rows with other names: the words have the place for a number."""
+    functions = {function[0]: function_word % k for k, function in enumerate(maker.functions)}
+    lets = {let[0]: let_word % k for k, let in enumerate(maker.lets)}
+    changed = []
+    for row in rows:
+        values = lets
+        if row[0] == "def":
+            values = {parameter[0]: parameter_word % k for k, parameter in enumerate(function_of(maker, row)[1])}
+        fellows = row[1:] + [";"]
+        changed.append([(functions if fellow == "(" else values).get(token, token) for token, fellow in zip(row, fellows)])
+    changed[0] = ["chance", title]
+    return changed
+
+
+def function_of(maker, row):
+    return [function for function in maker.functions if function[0] == row[1]][0]
 
 
 def kind_numbers(kind):
@@ -312,6 +360,68 @@ class MadePrograms(ProgramCase):
                     wanted += named(parameter[0]) + kind_numbers(parameter[1])
                 wanted += kind_numbers(kind) + listed(calls[number]) + [recursive[number]]
                 self.assertEqual(found[number + 1], wanted, form)
+
+    def test_kinds(self):
+        for maker, rows, form in self.made:
+            for (name, kind, body), found in zip(maker.lets, maker.found):
+                text = one_form([body])
+                answered = asked(loading(form), with_text(KIND, name), with_text(KIND, text), with_text(KIND, text + ";"))
+                self.assertEqual(answered[1], [1] + kind_numbers(kind), form)
+                self.assertEqual(answered[2], [1] + kind_numbers(found), text)
+                self.assertEqual(answered[3], [0, 3, len(text)], text)
+
+    def test_points(self):
+        for maker, rows, form in self.made:
+            anyhow = written_anyhow(rows, random.Random(form))
+            for text in (form, anyhow) if len(anyhow) <= 4096 else (form,):
+                wanted = points_in([token for row in rows for token in row])
+                places = [found.start() for found in re.finditer(r"\b(flip|uniform|pick)\b", text)]
+                self.assertEqual(len(wanted), len(places))
+                numbers = [number for place, (word, ways) in zip(places, wanted) for number in (place, ways)]
+                self.assertEqual(asked(loading(text), [POINTS])[1], [len(places)] + numbers, text)
+
+    def test_tells(self):
+        for maker, rows, form in self.made:
+            names = [name for name, kind, body in maker.lets]
+            self.assertEqual(asked(loading(form), [TELLS])[1], listed([names.index(name) for name in maker.told]))
+
+    def test_plain(self):
+        for maker, rows, form in self.made:
+            plain = one_form(written_otherwise(maker, rows, "P", "x%d", "f%d", "a%d"))
+            self.assertEqual(asked(loading(form), [PLAIN])[1], listed(as_bytes(plain)), form)
+            if len(plain) <= 4096:
+                found = asked(loading(plain), [PLAIN], [SHOWN], with_text(SAME, form), loading(form), with_text(SAME, plain))
+                self.assertEqual(found, [[1], listed(as_bytes(plain)), listed(as_bytes(plain)), [1], [1], [1]])
+
+    def test_same_with_other_names(self):
+        for maker, rows, form in self.made:
+            for words in (("f0", "f%d", "a%d", "x%d"), ("Q", "or%d", "or%d", "or%d"), ("add", "x1%d", "x1%d", "f1%d")):
+                other = without_blanks(one_form(written_otherwise(maker, rows, *words)))
+                if len(other) <= 3800:
+                    self.assertEqual(asked(loading(form), with_text(SAME, other))[1], [1], other)
+                    self.assertEqual(asked(loading(other), with_text(SAME, form))[1], [1], other)
+
+    def test_same_is_a_sameness(self):
+        small = sorted([form for maker, rows, form in self.made], key=len)[:30]
+        plains = [asked(loading(form), [PLAIN])[1] for form in small]
+        for form, plain in zip(small, plains):
+            for other, other_plain in zip(small, plains):
+                self.assertEqual(asked(loading(form), with_text(SAME, other))[1], [int(plain == other_plain)])
+
+    def test_same_of_broken_ones(self):
+        counts = {1: 0, 0: 0, -4: 0}
+        for maker, rows, form in self.made:
+            lot = random.Random(form)
+            words = form.split(" ")
+            for attempt in range(10):
+                at = lot.randrange(len(words))
+                broken = " ".join(words[:at] + [lot.choice(words)] + words[at + 1:])
+                found = asked(loading(form), [PLAIN], with_text(SAME, broken), [PLAIN], loading(broken), [PLAIN])
+                self.assertEqual(found[1], found[3])
+                wanted = -4 if found[4] != [1] else int(found[5] == found[1])
+                self.assertEqual(found[2], [wanted], broken)
+                counts[wanted] += 1
+        self.assertTrue(all(counts.values()), counts)
 
     def test_broken_ones_leave_what_is_held(self):
         codes = {}
